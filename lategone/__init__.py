@@ -1,0 +1,1 @@
+"""Lategone: heaps in which gone things are left."""

@@ -1,0 +1,1 @@
+"""Rows of entries."""

@@ -1,0 +1,176 @@
+"""A plain reckoning of DOC.md's words, without a line of the package, and deeds to try it on."""
+
+
+def exchanged(row, one, other):
+    cells = list(row)
+    cells[one], cells[other] = cells[other], cells[one]
+    return tuple(cells)
+
+
+def lifted(row, k):
+    if k == 0:
+        return row, 0
+    above = (k - 1) // 2
+    if row[k] < row[above]:
+        after, looks = lifted(exchanged(row, k, above), above)
+        return after, looks + 1
+    return row, 1
+
+
+def let_down(row, k):
+    beneath = [place for place in (2 * k + 1, 2 * k + 2) if place < len(row)]
+    if not beneath:
+        return row, 0
+    lesser = min(beneath, key=lambda place: (row[place], place))
+    if row[lesser] < row[k]:
+        after, looks = let_down(exchanged(row, k, lesser), lesser)
+        return after, looks + len(beneath)
+    return row, len(beneath)
+
+
+def first_wrong(row):
+    wrong = [k for k in range(1, len(row)) if row[(k - 1) // 2] > row[k]]
+    return min(wrong, default=None)
+
+
+def put_in(row, entry):
+    return lifted(row + (entry,), len(row))
+
+
+def taken(row):
+    if len(row) == 1:
+        return row[0], (), 0
+    after, looks = let_down((row[-1],) + row[1:-1], 0)
+    return row[0], after, looks
+
+
+def made(row):
+    total = 0
+    for k in reversed(range(len(row) // 2)):
+        row, looks = let_down(row, k)
+        total += looks
+    return row, total
+
+
+class PlainLate:
+    """[6], [7] and the work of [9]; gone entries are marked by their stamps."""
+
+    def __init__(self, slack):
+        self.slack = slack
+        self.entries = ()
+        self.gone = frozenset()
+        self.stamps = 0
+        self.total = 0
+
+    def present(self):
+        return [entry for entry in self.entries if entry[2] not in self.gone]
+
+    def entry_of(self, name):
+        return next((entry for entry in self.present() if entry[1] == name), None)
+
+    def enter(self, name, worth):
+        self.entries, looks = put_in(self.entries, (worth, name, self.stamps))
+        self.stamps += 1
+        self.total += looks
+
+    def cut(self):
+        entry, self.entries, looks = taken(self.entries)
+        self.total += looks
+        return entry
+
+    def bare_the_top(self):
+        while self.entries[0][2] in self.gone:
+            self.cut()
+
+    def sweep(self):
+        present = self.present()
+        gone = len(self.entries) - len(present)
+        if gone > len(present) and gone > self.slack:
+            self.entries, looks = made(tuple(present))
+            self.total += looks
+
+    def do(self, deed):
+        """What the deed tells, or the name of its refusal in a list."""
+        kind = deed[0]
+        if kind == "put" and self.entry_of(deed[1]):
+            return ["Clash"]
+        if kind in ("drop", "change") and not self.entry_of(deed[1]):
+            return ["NoThing"]
+        if kind in ("take", "least") and not self.present():
+            return ["NoThing"]
+        return getattr(self, "do_" + kind)(*deed[1:])
+
+    def do_put(self, name, worth):
+        self.enter(name, worth)
+        self.sweep()
+
+    def do_drop(self, name):
+        self.gone |= {self.entry_of(name)[2]}
+        self.sweep()
+
+    def do_change(self, name, worth):
+        self.gone |= {self.entry_of(name)[2]}
+        self.enter(name, worth)
+        self.sweep()
+
+    def do_least(self):
+        self.bare_the_top()
+        return self.entries[0][:2]
+
+    def do_take(self):
+        self.bare_the_top()
+        entry = self.cut()
+        self.sweep()
+        return entry[:2]
+
+    def seen(self):
+        """Row, things, many and work."""
+        things = tuple(sorted((name, worth) for worth, name, stamp in self.present()))
+        return self.entries, things, len(things), self.total
+
+
+class Dice:
+    """The same throws in each run and under each Python."""
+
+    def __init__(self, seed):
+        self.state = seed * 2 + 1
+
+    def below(self, bound):
+        throw = 0
+        for _ in range(bound.bit_length() // 16 + 2):
+            self.state = (self.state * 6364136223846793005 + 1442695040888963407) % 2 ** 64
+            throw = throw * 2 ** 16 + self.state // 2 ** 48
+        return throw % bound
+
+    def one_of(self, things):
+        return things[self.below(len(things))]
+
+
+GREAT = 10 ** 30 - 1
+
+
+def many_names(many):
+    """Names of one to eight letters, each longer one behind a beginning of its own."""
+    names = []
+    for k in range(many):
+        letter = "abcdefghijklmnopqrstuvwxyz"[k // 8]
+        names.append((letter * 7 + "z")[:k % 8 + 1])
+    return names
+
+
+def any_worth(dice, spread):
+    return dice.below(2 * spread + 1) - spread
+
+
+def any_entry(dice, spread, names):
+    return (any_worth(dice, spread), dice.one_of(names), dice.below(3))
+
+
+def any_deed(dice, mix, names, spread):
+    kind = dice.one_of(mix)
+    if kind in ("take", "least"):
+        return (kind,)
+    name = dice.one_of(names)
+    if kind == "drop":
+        return (kind, name)
+    return (kind, name, any_worth(dice, spread))
