@@ -61,6 +61,7 @@ class PlainLate:
         self.gone = frozenset()
         self.stamps = 0
         self.total = 0
+        self.most = 0
 
     def present(self):
         return [entry for entry in self.entries if entry[2] not in self.gone]
@@ -72,6 +73,8 @@ class PlainLate:
         self.entries, looks = put_in(self.entries, (worth, name, self.stamps))
         self.stamps += 1
         self.total += looks
+        # The row is never longer than here: ahead of the sweep that may follow.
+        self.most = max(self.most, len(self.entries))
 
     def cut(self):
         entry, self.entries, looks = taken(self.entries)
@@ -127,6 +130,112 @@ class PlainLate:
         """Row, things, many and work."""
         things = tuple(sorted((name, worth) for worth, name, stamp in self.present()))
         return self.entries, things, len(things), self.total
+
+
+class PlainTwins(PlainLate):
+    """[8]: the gone entries lie in a second heap."""
+
+    def __init__(self):
+        super().__init__(slack=None)
+        self.second = ()
+
+    def leave(self, name):
+        entry = self.entry_of(name)
+        self.gone |= {entry[2]}
+        self.second, _ = put_in(self.second, entry)
+
+    def bare_the_top(self):
+        while self.entries[:1] == self.second[:1]:
+            self.cut()
+            self.second = taken(self.second)[1]
+
+    def sweep(self):
+        pass
+
+    def do_drop(self, name):
+        self.leave(name)
+
+    def do_change(self, name, worth):
+        self.leave(name)
+        self.enter(name, worth)
+
+    def seen(self):
+        """Both rows, things and many."""
+        entries, things, many, _ = super().seen()
+        return (entries, self.second), things, many
+
+
+KINDS = ("put", "drop", "change", "take", "least")
+
+
+def ledger(deeds, slack, tariff):
+    """[10], or the name of the refusal in a list."""
+    heap = PlainLate(slack)
+    purse = 0
+    lines = ()
+    for deed in deeds:
+        before = heap.total
+        told = heap.do(deed)
+        if isinstance(told, list):
+            return told
+        work = heap.total - before
+        purse += tariff[KINDS.index(deed[0])]
+        purse -= work
+        lines += ((deed, work, purse),)
+    return lines
+
+
+def ledger_shown(lines, slack, tariff):
+    right = ledger([line[0] for line in lines], slack, tariff)
+    return right == lines and min((line[2] for line in lines), default=0) >= 0
+
+
+def firsts(heap, k):
+    """[11], of a PlainLate."""
+    row = heap.entries
+    present = heap.present()
+    places = [0] if row else []
+    told = []
+    count = 0
+    while len(told) < k and places:
+        place = min(places, key=lambda p: row[p])
+        places.remove(place)
+        count += 1
+        if row[place] in present:
+            told.append(row[place][:2])
+        places += [p for p in (2 * place + 1, 2 * place + 2) if p < len(row)]
+    return tuple(told), count
+
+
+def put_together(one, other):
+    """[12], of two PlainLates: the deeds it names. The one that comes, or the name of the refusal in a list."""
+    here, there = one.seen()[1], other.seen()[1]
+    if set(dict(here)) & set(dict(there)):
+        return ["Clash"]
+    lesser, greater, moved = (one, other, here) if len(here) < len(there) else (other, one, there)
+    for name, worth in moved:
+        lesser.do(("drop", name))
+        greater.do(("put", name, worth))
+    return greater
+
+
+def done(heap, deed):
+    """What the deed tells, or the name of its refusal in a list."""
+    try:
+        return getattr(heap, deed[0])(*deed[1:])
+    except ValueError as refusal:
+        return [type(refusal).__name__]
+
+
+def filled(heap, *things):
+    for name, worth in things:
+        heap.put(name, worth)
+    return heap
+
+
+def seen(heap):
+    """Row, things, many and work of a Late."""
+    return heap.row(), heap.things(), heap.many(), heap.work()
 
 
 class Dice:

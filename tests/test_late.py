@@ -4,27 +4,13 @@ import unittest
 from lategone.errors import Clash, HeapError, NoAsk, NoThing
 from lategone.late import Late
 from tests import plain
+from tests.plain import done, seen
 
 REFUSALS = (Clash, NoThing, NoAsk)
 
 
-def done(heap, deed):
-    """What the deed tells, or the name of its refusal in a list."""
-    try:
-        return getattr(heap, deed[0])(*deed[1:])
-    except HeapError as refusal:
-        return [type(refusal).__name__]
-
-
 def filled(slack, *things):
-    heap = Late(slack)
-    for name, worth in things:
-        heap.put(name, worth)
-    return heap
-
-
-def seen(heap):
-    return heap.row(), heap.things(), heap.many(), heap.work()
+    return plain.filled(Late(slack), *things)
 
 
 class LateCase(unittest.TestCase):
