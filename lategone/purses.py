@@ -41,12 +41,11 @@ def written(deeds, slack, tariff):
 
 def carry_out(heap, deed):
     if deed[0] == "put":
-        heap.put(deed[1], deed[2])
-    elif deed[0] == "drop":
-        heap.drop(deed[1])
-    elif deed[0] == "change":
-        heap.change(deed[1], deed[2])
-    elif deed[0] == "take":
-        heap.take()
-    else:
-        heap.least()
+        return heap.put(deed[1], deed[2])
+    if deed[0] == "drop":
+        return heap.drop(deed[1])
+    if deed[0] == "change":
+        return heap.change(deed[1], deed[2])
+    if deed[0] == "take":
+        return heap.take()
+    return heap.least()

@@ -1,5 +1,7 @@
 """A plain reckoning of DOC.md's words, without a line of the package, and deeds to try it on."""
 
+import re
+
 
 def exchanged(row, one, other):
     cells = list(row)
@@ -217,6 +219,91 @@ def put_together(one, other):
         lesser.do(("drop", name))
         greater.do(("put", name, worth))
     return greater
+
+
+def windows(row, width):
+    """[13] and [14]: the worths of each window, in order."""
+    return [sorted(row[k:k + width]) for k in range(len(row) - width + 1)]
+
+
+def nearest(web, first):
+    """[15]: rows are gone through till none leads nearer."""
+    lengths = {first: 0}
+    before = None
+    while lengths != before:
+        before = dict(lengths)
+        for start, goal, length in web:
+            if start in lengths:
+                lengths[goal] = min(lengths[start] + length, lengths.get(goal, lengths[start] + length))
+    ways = {}
+    for name in set(lengths) - {first}:
+        ways[name] = min(start for start, goal, length in web
+                         if goal == name and start in lengths and lengths[start] + length == lengths[name])
+    return lengths, ways
+
+
+NAME = "([a-z]{1,8})"
+COUNT = "(0|[1-9][0-9]{0,29})"
+NUMBER = "(0|-?[1-9][0-9]{0,29})"
+LINES = {
+    "heap": f"{NAME} {COUNT}", "put": f"{NAME} {NAME} {NUMBER}", "drop": f"{NAME} {NAME}",
+    "change": f"{NAME} {NAME} {NUMBER}", "take": NAME, "least": NAME, "first": f"{NAME} {COUNT}",
+    "join": f"{NAME} {NAME}", "room": NAME, "works": NAME,
+}
+
+
+class PlainDesk:
+    """[17]: under each name stand its heap and all the heaps whose work is its own."""
+
+    def __init__(self):
+        self.heaps = {}
+
+    def ask(self, line):
+        """What the line tells, or the name of its refusal as a text."""
+        word, _, rest = line.partition(" ")
+        match = re.fullmatch(LINES.get(word, "(?!)"), rest)
+        if not match:
+            return "NoAsk"
+        name, *more = match.groups()
+        if word == "heap":
+            heap = PlainLate(int(more[0]))
+            self.heaps[name] = (heap, [heap])
+            return []
+        if name not in self.heaps:
+            return "NoAsk"
+        if word == "join":
+            return self.join(name, more[0])
+        heap, workers = self.heaps[name]
+        if word == "first":
+            return [f"{worth} {thing}" for worth, thing, _ in sorted(heap.present())[:int(more[0])]]
+        if word == "room":
+            return [f"{len(heap.present())} {len(heap.entries)}"]
+        if word == "works":
+            return [str(sum(worker.total for worker in workers))]
+        told = heap.do((word, *more[:1], *map(int, more[1:])))
+        if isinstance(told, list):
+            return told[0]
+        return [f"{told[0]} {told[1]}"] if told else []
+
+    def join(self, name, second):
+        if second not in self.heaps or second == name:
+            return "NoAsk"
+        (one, ones), (other, others) = self.heaps[name], self.heaps[second]
+        comes = put_together(one, other)
+        if isinstance(comes, list):
+            return comes[0]
+        new = PlainLate((other if comes is one else one).slack)
+        self.heaps[name] = (comes, ones + others)
+        self.heaps[second] = (new, [new])
+        return []
+
+
+def asked(desk, line):
+    """What the line tells, or the name of its refusal as a text."""
+    try:
+        return desk.ask(line)
+    except ValueError as refusal:
+        return type(refusal).__name__
 
 
 def done(heap, deed):

@@ -77,6 +77,18 @@ class Language(unittest.TestCase):
             power = isinstance(node.op, ast.Pow)
             self.assertFalse(power and not isinstance(node.right, ast.Constant), (name, node.lineno))
 
+    def test_texts_with_names_in_braces(self):
+        for name, node in nodes(ast.FormattedValue):
+            self.assertIsInstance(node.value, ast.Name, (name, node.lineno))
+            self.assertIsNone(node.format_spec, (name, node.lineno))
+
+    def test_what_stands_at_the_top(self):
+        for path in files():
+            for part in ast.parse(path.read_text()).body:
+                held = ast.literal_eval(part.value) if isinstance(part, ast.Assign) else None
+                for cell in held.values() if isinstance(held, dict) else held if isinstance(held, list) else ():
+                    self.assertNotIsInstance(cell, (list, dict), (path.name, part.lineno))
+
     def test_functions(self):
         for name, node in nodes(ast.FunctionDef):
             self.assertLessEqual(node.end_lineno - node.lineno + 1, 40, (name, node.name))
